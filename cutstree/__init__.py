@@ -1,0 +1,1 @@
+"""Least cuts between any two places of a web, told by one tree."""
