@@ -19,3 +19,10 @@ def is_place(many, thing):
 
 def are_unlike_places(many, i, j):
     return is_place(many, i) and is_place(many, j) and i != j
+
+
+def are_rising_places(many, thing):
+    """Whether it is a rising row of places, perhaps of none."""
+    if not is_row(thing) or not all([is_place(many, one) for one in thing]):
+        return False
+    return all([one < other for one, other in zip(thing, thing[1:])])

@@ -1,0 +1,79 @@
+"""Slow and plain ways to find what the program tells, for small webs: all sides, all ways."""
+
+from fractions import Fraction
+from itertools import combinations
+
+
+def fraction(amount):
+    return Fraction(amount[0], amount[1])
+
+
+def amount(number):
+    return (number.numerator, number.denominator)
+
+
+def all_sides(many):
+    for length in range(1, many):
+        yield from combinations(range(many), length)
+
+
+def weight_of(web, side):
+    return sum((fraction(web.tie(i, j)) for i in side for j in range(web.many) if j not in side), Fraction(0))
+
+
+def sides_between(web, froms, tos):
+    for side in all_sides(web.many):
+        if set(froms) <= set(side) and not set(tos) & set(side):
+            yield side
+
+
+def least_between_ends(web, froms, tos):
+    return min(weight_of(web, side) for side in sides_between(web, froms, tos))
+
+
+def all_ends(many):
+    """All two rows of places that are ends."""
+    for froms in all_sides(many):
+        for tos in all_sides(many):
+            if not set(froms) & set(tos):
+                yield froms, tos
+
+
+def all_ways(rooms, many, froms, tos, bound):
+    """Every way without a place twice, each of whose rooms is above nought and the bound or more."""
+    growing = [(place,) for place in froms]
+    while growing:
+        way = growing.pop()
+        for there in range(many):
+            room = rooms[way[-1], there]
+            if there in way or there in froms or room <= 0 or room < bound:
+                continue
+            if there in tos:
+                yield way + (there,)
+            else:
+                growing.append(way + (there,))
+
+
+def flow_by_ways(web, froms, tos, bounds):
+    """(flow, ways): for each bound the first of the fewest places among all ways, as long as there is one."""
+    many = web.many
+    rooms = {(i, j): fraction(web.tie(i, j)) if i != j else 0 for i in range(many) for j in range(many)}
+    taken = 0
+    for bound in bounds:
+        ways = sorted(all_ways(rooms, many, froms, tos, bound), key=lambda way: (len(way), way))
+        while ways:
+            steps = list(zip(ways[0], ways[0][1:]))
+            least = min(rooms[step] for step in steps)
+            for here, there in steps:
+                rooms[here, there] -= least
+                rooms[there, here] += least
+            taken += 1
+            ways = sorted(all_ways(rooms, many, froms, tos, bound), key=lambda way: (len(way), way))
+    brought = {(i, j): fraction(web.tie(i, j)) - rooms[i, j] for i in range(many) for j in range(many) if i != j}
+    return (tuple((i, j, amount(much)) for (i, j), much in sorted(brought.items()) if much > 0), taken)
+
+
+def halved_bounds(web):
+    greatest = max((fraction(weight) for i, j, weight in web.ties), default=Fraction(0))
+    bounds = [Fraction(1 << power, 55440) for power in range(80)]
+    return [bound for bound in reversed(bounds) if bound <= greatest]
