@@ -2,7 +2,7 @@
 
 from cutstree.amounts import from_parts, is_in_parts, parts
 from cutstree.errors import NoFlow, NoPlace
-from cutstree.kinds import are_rising_places, are_unlike_places, is_row, is_row_of
+from cutstree.kinds import are_rising_places, are_unlike_places, is_rising, is_row, is_row_of
 
 
 def are_ends(web, froms, tos):
@@ -45,7 +45,7 @@ def are_flow_rows(web, flow):
     if not is_row(flow) or not all([is_flow_row(web, row) for row in flow]):
         return False
     steps = [(row[0], row[1]) for row in flow]
-    if not all([one < other for one, other in zip(steps, steps[1:])]):
+    if not is_rising(steps):
         return False
     ahead = {step: True for step in steps}
     return not any([(j, i) in ahead for i, j in steps])

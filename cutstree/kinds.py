@@ -21,8 +21,15 @@ def are_unlike_places(many, i, j):
     return is_place(many, i) and is_place(many, j) and i != j
 
 
+def is_between_places(many, thing):
+    """Whether it is a row of three, the first two of them places, the lower one first."""
+    return is_row_of(thing, 3) and are_unlike_places(many, thing[0], thing[1]) and thing[0] < thing[1]
+
+
+def is_rising(row):
+    return all([one < other for one, other in zip(row, row[1:])])
+
+
 def are_rising_places(many, thing):
     """Whether it is a rising row of places, perhaps of none."""
-    if not is_row(thing) or not all([is_place(many, one) for one in thing]):
-        return False
-    return all([one < other for one, other in zip(thing, thing[1:])])
+    return is_row(thing) and all([is_place(many, one) for one in thing]) and is_rising(thing)

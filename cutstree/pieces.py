@@ -1,5 +1,7 @@
 """The pieces of a web: places that ways of ties join."""
 
+from cutstree.reaching import reached_from
+
 
 def pieces(web):
     beside = places_beside(web)
@@ -7,7 +9,7 @@ def pieces(web):
     found = []
     for place in range(web.many):
         if place not in seen:
-            piece = piece_of(beside, place)
+            piece = reached_from(beside, (place,))
             seen.update({one: True for one in piece})
             found.append(piece)
     return tuple(found)
@@ -20,15 +22,3 @@ def places_beside(web):
         beside[i].append(j)
         beside[j].append(i)
     return beside
-
-
-def piece_of(beside, place):
-    found = {place: True}
-    waiting = [place]
-    while waiting:
-        here = waiting.pop()
-        for there in beside[here]:
-            if there not in found:
-                found[there] = True
-                waiting.append(there)
-    return tuple(sorted(found))

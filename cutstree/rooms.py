@@ -15,6 +15,25 @@ def all_rooms(web):
     return rooms
 
 
+def rooms_left(web, flow):
+    """The rooms that a flow leaves."""
+    rooms = all_rooms(web)
+    for i, j, amount in flow:
+        rooms[i][j] -= parts(amount)
+        rooms[j][i] += parts(amount)
+    return rooms
+
+
+def places_onward(rooms):
+    """For each place those to which there is room from it."""
+    return [[there for there, room in enumerate(row) if room > 0] for row in rooms]
+
+
+def places_back(rooms):
+    """For each place those from which there is room to it."""
+    return [[here for here, row in enumerate(rooms) if row[there] > 0] for there in range(len(rooms))]
+
+
 def flow_of(web, rooms):
     """The flow that leaves these rooms."""
     rows = []

@@ -2,7 +2,7 @@
 
 from cutstree.amounts import is_weight
 from cutstree.errors import NoPlace, NoTie
-from cutstree.kinds import is_place, is_row, is_row_of, is_whole
+from cutstree.kinds import is_between_places, is_row, is_whole
 
 MOST_PLACES = 40
 
@@ -34,6 +34,4 @@ def kept_ties(many, ties):
 
 
 def is_tie(many, thing):
-    if not is_row_of(thing, 3) or not is_place(many, thing[0]) or not is_place(many, thing[1]):
-        return False
-    return thing[0] < thing[1] and is_weight(thing[2])
+    return is_between_places(many, thing) and is_weight(thing[2])

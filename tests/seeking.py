@@ -77,3 +77,53 @@ def halved_bounds(web):
     greatest = max((fraction(weight) for i, j, weight in web.ties), default=Fraction(0))
     bounds = [Fraction(1 << power, 55440) for power in range(80)]
     return [bound for bound in reversed(bounds) if bound <= greatest]
+
+
+def least_sides_between(web, froms, tos):
+    """All sides between the ends of the least weight."""
+    least = least_between_ends(web, froms, tos)
+    return [side for side in sides_between(web, froms, tos) if weight_of(web, side) == least]
+
+
+def cut_of(web, i, j):
+    """The least weight of all sides that part two places."""
+    return least_between_ends(web, (i,), (j,))
+
+
+def least_of_sides(web):
+    return min(weight_of(web, side) for side in all_sides(web.many))
+
+
+def least_sides(web):
+    """All sides without place 0 of the least weight of all, rising."""
+    least = least_of_sides(web)
+    return tuple(sorted(side for side in all_sides(web.many) if 0 not in side and weight_of(web, side) == least))
+
+
+def joined_to(tree, start, without=None):
+    """The places that rows of a tree join to one, leaving a row out."""
+    found = {start}
+    for step in tree:
+        for at, (i, j, much) in enumerate(tree):
+            if at != without and (i in found) != (j in found):
+                found |= {i, j}
+    return found
+
+
+def side_of_row(tree, k):
+    """The places that the k-th row parts from place 0."""
+    return tuple(sorted(set(range(len(tree) + 1)) - joined_to(tree, 0, without=k)))
+
+
+def way_of_rows(tree, i, j):
+    """The indexes of the rows that part two places, those first that leave fewer places with the first one."""
+    parting = [k for k in range(len(tree)) if j not in joined_to(tree, i, without=k)]
+    return tuple(sorted(parting, key=lambda k: len(joined_to(tree, i, without=k))))
+
+
+def is_cut_tree_of(web, tree):
+    """Whether each amount is the cut of its two places and the weight of the row's side, by a search of all sides."""
+    for k, (i, j, much) in enumerate(tree):
+        if not fraction(much) == cut_of(web, i, j) == weight_of(web, side_of_row(tree, k)):
+            return False
+    return True

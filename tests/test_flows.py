@@ -4,7 +4,7 @@ from cutstree.errors import NoFlow, NoPlace
 from cutstree.flows import are_ends, flow_worth, is_flow
 from cutstree.webs import Web
 from tests.seeking import all_ends
-from tests.things import ODD, Case
+from tests.things import ODD, Case, as_lists
 
 ONE = (1, 1)
 WEB = Web(5, [(0, 1, ONE), (0, 2, (3, 2)), (1, 2, (1, 2)), (1, 3, (2, 1)), (2, 3, ONE), (3, 4, (1, 3))])
@@ -58,10 +58,6 @@ NO_FLOWS = {
     "great numbers": ((0, 1, (10 ** 50, 1)), (1, 3, (10 ** 50, 1))),
     "great belows": ((0, 1, (1, 10 ** 50)), (1, 3, (1, 10 ** 50))),
 }
-
-
-def as_lists(thing):
-    return [as_lists(one) for one in thing] if isinstance(thing, tuple) else thing
 
 
 class Ends(Case):

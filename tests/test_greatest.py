@@ -6,18 +6,10 @@ from cutstree.halving import halved_flow
 from cutstree.shortest import shortest_flow
 from cutstree.webs import Web
 from tests.seeking import all_ends, amount, flow_by_ways, halved_bounds, least_between_ends
+from tests.shapes import rows, whole
 from tests.things import ODD, Case, made_web, numbers
 
 CALLS = (shortest_flow, halved_flow)
-
-
-def whole(many, ties):
-    """A web whose weights are whole numbers."""
-    return Web(many, [(i, j, (much, 1)) for i, j, much in ties])
-
-
-def rows(flow):
-    return tuple((i, j, (much, 1)) for i, j, much in flow)
 
 
 class Both(Case):

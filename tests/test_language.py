@@ -25,6 +25,13 @@ NO_NODES = (
     ast.AsyncFor, ast.AsyncWith, ast.Await, ast.NamedExpr, ast.Div, ast.MatMult, ast.Match, ast.Import, ast.AnnAssign,
 )
 TOP = (ast.ImportFrom, ast.FunctionDef, ast.ClassDef, ast.Assign)
+LAZY = {"zip", "enumerate", "reversed", "range", "items", "keys", "values"}
+WALKERS = {"list", "tuple", "dict", "sorted", "sum", "any", "all", "enumerate", "zip", "bytes", "min", "max"}
+CHANGES = {"append", "clear", "extend", "insert", "pop", "remove", "reverse", "setdefault", "update", "sort"}
+KEYWORDS = {
+    "sorted": {"key", "reverse"}, "sort": {"key", "reverse"}, "min": {"key", "default"}, "max": {"key", "default"},
+    "sum": {"start"}, "enumerate": {"start"}, "zip": {"strict"},
+}
 UNDERSCORED = {"__init__", "__eq__", "__repr__", "__str__", "__len__"}
 
 
@@ -50,6 +57,37 @@ def bound(tree):
         if isinstance(row, ast.ImportFrom):
             found.extend((one.asname or one.name, row) for one in row.names)
     return found
+
+
+def called(node):
+    """The name of what is called: a name, or a method's."""
+    return node.func.attr if isinstance(node.func, ast.Attribute) else getattr(node.func, "id", None)
+
+
+def walked_on_the_spot(tree):
+    for node in ast.walk(tree):
+        if isinstance(node, (ast.For, ast.comprehension)):
+            yield node.iter
+        if isinstance(node, ast.Call) and called(node) in WALKERS | {"join"}:
+            yield from node.args if called(node) == "zip" else node.args[:1]
+
+
+def walked_things(walk):
+    """What is walked, itself or through enumerate, zip, reversed, items."""
+    if isinstance(walk, ast.Call) and called(walk) in ("enumerate", "zip", "reversed"):
+        return [one for arg in walk.args for one in walked_things(arg)]
+    if isinstance(walk, ast.Call) and called(walk) in ("items", "keys", "values"):
+        return [walk.func.value]
+    return [walk]
+
+
+def changed_thing(node):
+    """The thing that a call or a target changes, as it is written; None if it changes none."""
+    if isinstance(node, ast.Call) and isinstance(node.func, ast.Attribute) and node.func.attr in CHANGES:
+        return ast.unparse(node.func.value)
+    if isinstance(node, ast.Subscript) and not isinstance(node.ctx, ast.Load):
+        return ast.unparse(node.value)
+    return None
 
 
 class Signs(unittest.TestCase):
@@ -184,9 +222,24 @@ class Names(unittest.TestCase):
             self.assertIsNone(node.format_spec, name)
 
     def test_walked_at_once(self):
-        for name, node in nodes(ast.Assign):
-            if isinstance(node.value, ast.Call) and isinstance(node.value.func, ast.Name):
-                self.assertNotIn(node.value.func.id, ("zip", "range", "enumerate", "reversed"), name)
+        for name, tree in trees().items():
+            walked = list(walked_on_the_spot(tree))
+            for node in ast.walk(tree):
+                if isinstance(node, ast.Call) and called(node) in LAZY:
+                    self.assertTrue(any(node is one for one in walked), (name, node.lineno))
+
+    def test_what_is_walked_is_not_changed(self):
+        for name, loop in nodes(ast.For):
+            walked = {ast.unparse(one) for one in walked_things(loop.iter)}
+            for row in loop.body:
+                for node in ast.walk(row):
+                    self.assertNotIn(changed_thing(node), walked, (name, node))
+
+    def test_keywords(self):
+        for name, node in nodes(ast.Call):
+            words = {word.arg for word in node.keywords}
+            if called(node) in OWN_NAMES | METHODS:
+                self.assertLessEqual(words, KEYWORDS.get(called(node), set()), (name, node.lineno))
 
     def test_sets_are_not_walked(self):
         for name, node in nodes((ast.For, ast.comprehension)):

@@ -22,6 +22,10 @@ ODD = (
 )
 
 
+def as_lists(thing):
+    return [as_lists(one) for one in thing] if isinstance(thing, tuple) else thing
+
+
 def is_told(thing):
     """Whether it is of tuples, texts, numbers, truths, None and Webs alone, through and through."""
     if type(thing) is tuple:
