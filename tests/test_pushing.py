@@ -68,7 +68,7 @@ class Pushed(Case):
                 self.assertEqual(self.is_right(web, froms, tos), amount(least_between_ends(web, froms, tos)))
 
     def test_of_the_same_worth_as_the_others(self):
-        for web in great_webs():
+        for web in great_webs() + list(made_webs(13, (7, 8, 10, 13), 20)):
             for froms, tos in ends_of(web.many):
                 worth = self.is_right(web, froms, tos)
                 self.assertEqual(worth, flow_worth(web, froms, tos, shortest_flow(web, froms, tos)[0]))
