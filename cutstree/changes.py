@@ -2,18 +2,21 @@
 
 from cutstree.amounts import is_weight
 from cutstree.errors import NoPlace, NoTie, NoWeight, TooMany
-from cutstree.kinds import are_unlike_places, is_place, is_row, is_row_of
+from cutstree.kinds import is_place, is_row, is_row_of, refuse_no_two_places
 from cutstree.webs import MOST_PLACES, Web
 
 
 def changed(web, i, j, weight):
-    if not are_unlike_places(web.many, i, j):
-        raise NoPlace()
-    if not is_weight(weight):
-        raise NoWeight()
+    refuse_no_change(web, i, j, weight)
     low, high = min(i, j), max(i, j)
     kept = [row for row in web.ties if (row[0], row[1]) != (low, high)]
     return Web(web.many, kept + [(low, high, weight)])
+
+
+def refuse_no_change(web, i, j, weight):
+    refuse_no_two_places(web.many, i, j)
+    if not is_weight(weight):
+        raise NoWeight()
 
 
 def with_place(web, ties):

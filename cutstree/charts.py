@@ -43,9 +43,14 @@ def any_cross(sides):
     """Whether two of some sides, told by their bits, cross."""
     for at, one in enumerate(sides):
         # A long row is soon left: of any 80 sides some two cross.
-        if any([one & other not in (0, one, other) for other in sides[:at]]):
+        if is_crossed(one, sides[:at]):
             return True
     return False
+
+
+def is_crossed(one, sides):
+    """Whether one of some sides crosses a side, all told by their bits."""
+    return any([one & other not in (0, one, other) for other in sides])
 
 
 def are_rings(links, rings):

@@ -6,13 +6,16 @@ are changed in place as heaps are parted.
 
 from cutstree.amounts import from_parts
 from cutstree.heaps import heaped_rooms, joined, part_two
-from cutstree.reaching import reached_from
+from cutstree.reaching import places_beside, reached_from
 from cutstree.trees import row_between
 
 
 def drawn_tree(web):
-    heaps = [tuple(range(web.many))]
-    rows = []
+    return grown_tree(web, [tuple(range(web.many))], [])
+
+
+def grown_tree(web, heaps, rows):
+    """(tree, asked): parts heaps till each is one place; the rows must be least cuts of some two, one of each heap."""
     asked = 0
     while len(heaps) < web.many:
         part_heap(web, heaps, rows, first_to_part(heaps))
@@ -44,11 +47,7 @@ def other_end(row, at):
 
 def places_behind(heaps, rows, at, heap):
     """All places that lie behind the row from the heap at an index to another heap."""
-    beside = [[] for one in heaps]
-    for one, other, much in rows:
-        if at not in (one, other):
-            beside[one].append(other)
-            beside[other].append(one)
+    beside = places_beside(len(heaps), [(one, other) for one, other, much in rows if at not in (one, other)])
     return joined([heaps[one] for one in reached_from(beside, (heap,))])
 
 

@@ -31,6 +31,16 @@ def flow_worth(web, froms, tos, flow):
 
 def worth_in_parts(web, froms, tos, flow):
     """How many 55,440ths a flow between these ends is worth, None if it is no flow."""
+    worth = loose_worth(web, froms, tos, flow)
+    return worth if worth is not None and is_within_ties(web, flow) else None
+
+
+def is_within_ties(web, flow):
+    return all([parts(amount) <= parts(web.tie(i, j)) for i, j, amount in flow])
+
+
+def loose_worth(web, froms, tos, flow):
+    """The worth of what is a flow but that it may be above the ties' weights; None of anything else."""
     if not are_flow_rows(web, flow):
         return None
     going = going_out(web, flow)
@@ -41,8 +51,8 @@ def worth_in_parts(web, froms, tos, flow):
 
 
 def are_flow_rows(web, flow):
-    """Whether all but the balance is as a flow has it."""
-    if not is_row(flow) or not all([is_flow_row(web, row) for row in flow]):
+    """Whether all but the balance and the bounds by ties is as a flow has it."""
+    if not is_row(flow) or not all([is_flow_row(web.many, row) for row in flow]):
         return False
     steps = [(row[0], row[1]) for row in flow]
     if not is_rising(steps):
@@ -51,10 +61,10 @@ def are_flow_rows(web, flow):
     return not any([(j, i) in ahead for i, j in steps])
 
 
-def is_flow_row(web, thing):
-    if not is_row_of(thing, 3) or not are_unlike_places(web.many, thing[0], thing[1]):
+def is_flow_row(many, thing):
+    if not is_row_of(thing, 3) or not are_unlike_places(many, thing[0], thing[1]):
         return False
-    return is_in_parts(thing[2]) and 0 < parts(thing[2]) <= parts(web.tie(thing[0], thing[1]))
+    return is_in_parts(thing[2]) and thing[2][0] > 0
 
 
 def going_out(web, flow):

@@ -1,5 +1,7 @@
 """What kind of thing a thing is: whole numbers, rows, places."""
 
+from cutstree.errors import NoPlace
+
 
 def is_whole(thing):
     return isinstance(thing, int) and not isinstance(thing, bool)
@@ -19,6 +21,11 @@ def is_place(many, thing):
 
 def are_unlike_places(many, i, j):
     return is_place(many, i) and is_place(many, j) and i != j
+
+
+def refuse_no_two_places(many, i, j):
+    if not are_unlike_places(many, i, j):
+        raise NoPlace()
 
 
 def is_between_places(many, thing):

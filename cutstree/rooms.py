@@ -24,6 +24,14 @@ def rooms_left(web, flow):
     return rooms
 
 
+def carried_by(many, flow):
+    """A table of what a flow, loose or not, carries from each place to each other one."""
+    carried = [[0] * many for place in range(many)]
+    for i, j, amount in flow:
+        carried[i][j] = parts(amount)
+    return carried
+
+
 def places_onward(rooms):
     """For each place those to which there is room from it."""
     return [[there for there, room in enumerate(row) if room > 0] for row in rooms]

@@ -2,7 +2,7 @@
 
 from cutstree.amounts import is_amount, is_below
 from cutstree.errors import NoPlace, NoTree
-from cutstree.kinds import are_unlike_places, is_between_places, is_place, is_rising, is_row, is_row_of
+from cutstree.kinds import is_between_places, is_place, is_rising, is_row, is_row_of, refuse_no_two_places
 from cutstree.webs import MOST_PLACES
 
 
@@ -16,8 +16,7 @@ def is_tree(many, tree):
 
 def tree_way(tree, i, j):
     refuse_no_tree(tree)
-    if not are_unlike_places(len(tree) + 1, i, j):
-        raise NoPlace()
+    refuse_no_two_places(len(tree) + 1, i, j)
     came = {there: (here, at) for here, there, at in steps_from(tree, j)}
     way = []
     place = i
@@ -36,6 +35,11 @@ def tree_side(tree, k):
 
 def refuse_no_tree(tree):
     if not is_row(tree) or not is_tree(len(tree) + 1, tree):
+        raise NoTree()
+
+
+def refuse_no_tree_of(web, tree):
+    if not is_tree(web.many, tree):
         raise NoTree()
 
 

@@ -1,7 +1,7 @@
 """Slow and plain ways to find what the program tells, for small webs: all sides, all ways."""
 
 from fractions import Fraction
-from itertools import combinations
+from itertools import combinations, permutations
 
 
 def fraction(amount):
@@ -90,6 +90,17 @@ def cut_of(web, i, j):
     return least_between_ends(web, (i,), (j,))
 
 
+def all_cuts(web):
+    """For each two places u below v their cut, by a search of all sides."""
+    cuts = {}
+    for side in all_sides(web.many):
+        weight = weight_of(web, side) if 0 in side else None
+        for u, v in combinations(range(web.many), 2):
+            if weight is not None and (u in side) != (v in side):
+                cuts[u, v] = min(weight, cuts.get((u, v), weight))
+    return cuts
+
+
 def least_of_sides(web):
     return min(weight_of(web, side) for side in all_sides(web.many))
 
@@ -127,3 +138,36 @@ def is_cut_tree_of(web, tree):
         if not fraction(much) == cut_of(web, i, j) == weight_of(web, side_of_row(tree, k)):
             return False
     return True
+
+
+def crosses(one, other):
+    one, other = set(one), set(other)
+    return bool(one & other and one - other and other - one)
+
+
+def straight_within(links, k):
+    """The indexes of the links straight within the k-th, by the words of the promise."""
+    held = [at for at, link in enumerate(links) if at != k and set(link) < set(links[k])]
+    return [at for at in held if not any(set(links[at]) < set(links[other]) for other in held)]
+
+
+def right_rings(links):
+    """All rings that a chart of these links may have, each by itself."""
+    for k, link in enumerate(links):
+        within = straight_within(links, k)
+        if len(within) >= 3 and sorted(place for at in within for place in links[at]) == list(link):
+            for order in permutations(within):
+                if order[0] < order[-1]:
+                    yield (k, order)
+
+
+def unions(links, order):
+    runs = [order[a:b] for a in range(len(order)) for b in range(a + 2, len(order) + 1) if b - a < len(order)]
+    return [tuple(sorted(place for at in run for place in links[at])) for run in runs]
+
+
+def least_chart_by_search(web):
+    """The links that no other least side crosses, and each ring all of whose unions are least sides."""
+    sides = least_sides(web)
+    links = tuple(side for side in sides if not any(crosses(side, other) for other in sides))
+    return (links, tuple(row for row in right_rings(links) if set(unions(links, row[1])) <= set(sides)))

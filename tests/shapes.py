@@ -1,5 +1,6 @@
 """Webs of many kinds."""
 
+from cutstree.amounts import plus
 from cutstree.webs import Web
 from tests.things import WEIGHTS, made_web, numbers
 
@@ -89,3 +90,43 @@ def great_webs():
     webs = [path(40, SOME), ring(40), ring(13, SOME), star(40, SOME), star(17, GREAT, 5), ladder(40, SOME), ladder(12)]
     webs += [full(12, THIN), full(40, SOME), thick_halves(40), thick_halves(14, MIXED), in_pieces(40), in_pieces(11)]
     return webs + [Web(40, ()), necklace(20)] + list(made_webs(41, (9, 40), 3))
+
+
+def renamed(web, names):
+    """The web with other numbers for its places: names[k] is that of k."""
+    return Web(web.many, [(min(names[i], names[j]), max(names[i], names[j]), weight) for i, j, weight in web.ties])
+
+
+def mixed_up(many, source):
+    """The places in an order that the source makes."""
+    return sorted(range(many), key=lambda place: (next(source), place))
+
+
+def bunch(lengths, weight=(1, 1)):
+    """Rings of these lengths that all share place 0; a ring of two is one tie of twice the weight."""
+    ties, many = [], 1
+    for length in lengths:
+        round_it = [0] + list(range(many, many + length - 1))
+        ties += ring_ties(round_it, weight)
+        many += length - 1
+    return Web(many, ties)
+
+
+def ring_ties(places, weight=(1, 1)):
+    if len(places) == 2:
+        return [(min(places), max(places), plus(weight, weight))]
+    steps = zip(places, places[1:] + places[:1])
+    return [(min(step), max(step), weight) for step in steps]
+
+
+def grown_rings(source, many):
+    """Rings that hang on one another anywhere, some places of them two that are tied thick; numbered anyhow."""
+    ties, places = [], 1
+    while places < many:
+        length = min(many - places + 1, 2 + next(source) % 5)
+        round_it = [next(source) % places] + list(range(places, places + length - 1))
+        ties += ring_ties(round_it)
+        places += length - 1
+    thick = [(place, many + at, (9, 1)) for at, place in enumerate(range(0, many, 3))]
+    web = Web(many + len(thick), ties + thick)
+    return renamed(web, mixed_up(web.many, source))

@@ -7,7 +7,7 @@ from cutstree.charts import chart_sides, is_chart, is_least_chart
 from cutstree.errors import NoChart
 from cutstree.pushing import pushed_flow
 from cutstree.webs import Web
-from tests.seeking import all_sides, least_of_sides, least_sides
+from tests.seeking import all_sides, crosses, least_chart_by_search, least_of_sides, right_rings, unions
 from tests.shapes import SOME, full, in_pieces, ladder, made_webs, necklace, path, ring, small_webs, star, whole
 from tests.things import ODD, Case, as_lists
 
@@ -71,39 +71,6 @@ NO_RINGS = {
     "no row": (1, (0, 2, 3, 5)),
     "a dict": {0: RINGS[0]},
 }
-
-
-def crosses(one, other):
-    one, other = set(one), set(other)
-    return bool(one & other and one - other and other - one)
-
-
-def straight_within(links, k):
-    """The indexes of the links straight within the k-th, by the words of the promise."""
-    held = [at for at, link in enumerate(links) if at != k and set(link) < set(links[k])]
-    return [at for at in held if not any(set(links[at]) < set(links[other]) for other in held)]
-
-
-def right_rings(links):
-    """All rings that a chart of these links may have, each by itself."""
-    for k, link in enumerate(links):
-        within = straight_within(links, k)
-        if len(within) >= 3 and sorted(place for at in within for place in links[at]) == list(link):
-            for order in permutations(within):
-                if order[0] < order[-1]:
-                    yield (k, order)
-
-
-def unions(links, order):
-    runs = [order[a:b] for a in range(len(order)) for b in range(a + 2, len(order) + 1) if b - a < len(order)]
-    return [tuple(sorted(place for at in run for place in links[at])) for run in runs]
-
-
-def least_chart_by_search(web):
-    """The links that no other least side crosses, and each ring all of whose unions are least sides."""
-    sides = least_sides(web)
-    links = tuple(side for side in sides if not any(crosses(side, other) for other in sides))
-    return (links, tuple(row for row in right_rings(links) if set(unions(links, row[1])) <= set(sides)))
 
 
 class Told(Case):
