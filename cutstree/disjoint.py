@@ -30,7 +30,6 @@ def is_fewest(web, i, j, paper):
 
 
 def fewest_paper(web, i, j):
-    refuse_no_two_places(web.many, i, j)
     # Where each tie weighs 1, a flow is made of ways that share no tie.
     even = Web(web.many, [(one, other, (1, 1)) for one, other, weight in web.ties])
     flow, side = least_cut(even, (i,), (j,))
